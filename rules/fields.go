@@ -60,7 +60,7 @@ func readPort(field string) func(int) bool {
 		return fitsAll[int]
 	}
 	if !strings.Contains(field, "-") {
-		own := words.Number(field, api.MaxPort)
+		own := words.Port(field)
 		return func(port int) bool { return port == own }
 	}
 	first, last := readSpan(field, api.MaxPort)

@@ -6,6 +6,7 @@ import (
 
 	"turnpike/api"
 	"turnpike/rules"
+	"turnpike/tenants"
 )
 
 // Policy is rules.
@@ -57,21 +58,81 @@ func caught[T any](read func() T) (value T, right bool) {
 }
 
 // Gateway has connections.
-type Gateway struct{}
+type Gateway struct {
+	policy  *Policy
+	tenants tenants.List
+	minute  int
+	last    int     // the number of the latest connection
+	conns   []*conn // those that are open, by their numbers
+}
 
 // New makes a gateway (P5).
 func New(text string, users []api.User, minute int) (*Gateway, api.Errno, int) {
-	return nil, api.OK, 0
+	policy, errno, line := Compile(text)
+	if errno != api.OK {
+		return nil, errno, line
+	}
+	if len(users) > api.MaxUsers {
+		return nil, api.ErrMany, 0
+	}
+	var known tenants.List
+	for number, user := range users {
+		more, right := caught(func() tenants.List { return known.With(user) })
+		if !right {
+			return nil, api.ErrUser, number
+		}
+		known = more
+	}
+	if minute < 0 || minute >= api.Minutes {
+		return nil, api.ErrAsk, 0
+	}
+	return &Gateway{policy: policy, tenants: known, minute: minute}, api.OK, 0
 }
 
 // Accept takes in a client (P6).
-func (g *Gateway) Accept() (int, api.Errno) { return 0, api.OK }
+func (g *Gateway) Accept() (int, api.Errno) {
+	if len(g.conns) == api.MaxConns {
+		return 0, api.ErrFull
+	}
+	g.last++
+	g.conns = append(g.conns, &conn{link: link{number: g.last}})
+	return g.last, api.OK
+}
 
 // Client takes in bytes of a client's (P7).
-func (g *Gateway) Client(conn int, bytes string) ([]api.Event, api.Errno) { return nil, api.OK }
+func (g *Gateway) Client(conn int, bytes string) ([]api.Event, api.Errno) {
+	c := g.find(conn)
+	if c == nil {
+		return nil, api.ErrConn
+	}
+	c.heard()
+	if c.stage == through {
+		return c.send(api.ToHost, bytes), api.OK
+	}
+	c.wait(bytes)
+	if c.stage == calling {
+		return nil, api.OK
+	}
+	head, enough := c.takeHead()
+	if !enough {
+		return nil, api.OK
+	}
+	return g.answer(c, head), api.OK
+}
 
 // Dialed tells whether a host has answered the call (P8).
-func (g *Gateway) Dialed(conn int, ok bool) ([]api.Event, api.Errno) { return nil, api.OK }
+func (g *Gateway) Dialed(conn int, ok bool) ([]api.Event, api.Errno) {
+	c := g.find(conn)
+	if c == nil || c.stage != calling {
+		return nil, api.ErrConn
+	}
+	c.heard()
+	if !ok {
+		return g.refuse(c, api.Gone), api.OK
+	}
+	c.stage = through
+	return append(c.send(api.ToClient, api.Go), c.send(api.ToHost, c.takeWaiting())...), api.OK
+}
 
 // Host takes in bytes of a host's (P9).
 func (g *Gateway) Host(conn int, bytes string) ([]api.Event, api.Errno) { return nil, api.OK }

@@ -41,7 +41,7 @@ func (h Host) IsAddress() bool { return h.Name == "" }
 func ReadHost(text string) Host {
 	last := text[strings.LastIndexByte(text, '.')+1:]
 	// No name ends with figures alone, and every address does.
-	if all(last, isFigure) {
+	if All(last, IsFigure) {
 		return Host{Address: ReadAddress(text)}
 	}
 	return Host{Name: Name(Lower(text))}

@@ -1,5 +1,5 @@
-// Package words reads the words that rules and questions are made of: numbers,
-// tenants, names, addresses, hosts.
+// Package words reads the words that rules, questions and heads are made of:
+// numbers, tenants, names, addresses, hosts, ports.
 //
 // A reader gives up by panic where its text is wrong; the call that the text
 // came in by recovers and answers with its own error.
@@ -23,7 +23,7 @@ func Must(holds bool, wanted Wrong) {
 
 // Number reads a number that is not above highest.
 func Number(text string, highest int) int {
-	Must(text != "" && all(text, isFigure), "figures")
+	Must(text != "" && All(text, IsFigure), "figures")
 	Must(text == "0" || text[0] != '0', "a number without a 0 ahead of it")
 	n := 0
 	for i := range len(text) {
@@ -34,10 +34,13 @@ func Number(text string, highest int) int {
 	return n
 }
 
+// Port reads a port.
+func Port(text string) int { return Number(text, api.MaxPort) }
+
 // Tenant reads a tenant.
 func Tenant(text string) string {
 	Must(1 <= len(text) && len(text) <= api.MaxName, "a tenant of 1 to 8 letters")
-	Must(all(text, isSmall), "a tenant of small letters")
+	Must(All(text, IsSmall), "a tenant of small letters")
 	return text
 }
 
@@ -49,13 +52,13 @@ func Name(text string) string {
 	for _, label := range labels {
 		checkLabel(label)
 	}
-	Must(!all(labels[len(labels)-1], isFigure), "a name whose last label is not of figures alone")
+	Must(!All(labels[len(labels)-1], IsFigure), "a name whose last label is not of figures alone")
 	return text
 }
 
 func checkLabel(text string) {
 	Must(1 <= len(text) && len(text) <= api.MaxLabel, "a label of 1 to 20 bytes")
-	Must(all(text, isOfLabel), "a label of small letters, figures and -")
+	Must(All(text, isOfLabel), "a label of small letters, figures and -")
 	Must(text[0] != '-' && text[len(text)-1] != '-', "a label without - at its ends")
 }
 
@@ -64,24 +67,9 @@ func checkLabel(text string) {
 func Lower(text string) string {
 	small := []byte(text)
 	for i, c := range small {
-		if 'A' <= c && c <= 'Z' {
+		if IsGreat(c) {
 			small[i] = c - 'A' + 'a'
 		}
 	}
 	return string(small)
 }
-
-func all(text string, is func(c byte) bool) bool {
-	for i := range len(text) {
-		if !is(text[i]) {
-			return false
-		}
-	}
-	return true
-}
-
-func isFigure(c byte) bool { return '0' <= c && c <= '9' }
-
-func isSmall(c byte) bool { return 'a' <= c && c <= 'z' }
-
-func isOfLabel(c byte) bool { return isSmall(c) || isFigure(c) || c == '-' }

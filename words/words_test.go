@@ -36,6 +36,30 @@ func TestNumber(t *testing.T) {
 	}
 }
 
+func TestPort(t *testing.T) {
+	if Port("0") != 0 || Port("65535") != 65535 {
+		t.Error("a port is read as another")
+	}
+	for _, text := range []string{"", "65536", "080", "-1", "x"} {
+		if !gaveUp(t, func() { Port(text) }) {
+			t.Errorf("Port(%q) was read", text)
+		}
+	}
+}
+
+func TestKinds(t *testing.T) {
+	const figures, small, great = "0123456789", "abcdefghijklmnopqrstuvwxyz", "ABCDEFGHIJKLMNOPQRSTUVWXYZ"
+	for c := range 256 {
+		b := byte(c)
+		if IsFigure(b) != (strings.IndexByte(figures, b) >= 0) || IsSmall(b) != (strings.IndexByte(small, b) >= 0) || IsGreat(b) != (strings.IndexByte(great, b) >= 0) || IsSeen(b) != (c > 32 && c < 127) {
+			t.Errorf("the byte %d is taken for one of another kind", c)
+		}
+	}
+	if !All("", IsSeen) || !All("!~", IsSeen) || All(" ~", IsSeen) || All("! ", IsSeen) {
+		t.Error("All asks not all, or more")
+	}
+}
+
 func TestTenant(t *testing.T) {
 	for _, text := range []string{"a", "z", "ann", "letterss"} {
 		if Tenant(text) != text {

@@ -1,0 +1,130 @@
+package turnpike
+
+import (
+	"math/rand"
+	"slices"
+	"strings"
+	"testing"
+
+	"turnpike/api"
+)
+
+func TestNoCallOfAGatewayPanics(t *testing.T) {
+	r := rand.New(rand.NewSource(5))
+	for range 2000 {
+		users := make([]api.User, r.Intn(12))
+		for i := range users {
+			users[i] = api.User{Name: randomText(r, 4), Secret: randomText(r, 14)}
+		}
+		if g, e, at := New(randomText(r, 30), users, r.Int()-r.Int()); e == api.OK || g != nil || at < 0 {
+			t.Fatalf("P1: New gave %v, %d, %d", g, e, at)
+		}
+	}
+	g := gatewayAt(t, good, 0)
+	for range 20000 {
+		g.Accept()
+		conn := g.last - 9 + r.Intn(11)
+		if r.Intn(10) == 0 {
+			conn = r.Int() - r.Int()
+		}
+		text := randomText(r, 300)
+		if r.Intn(3) == 0 {
+			text = headTo("x:1", annSays) + text
+		}
+		if got, e := g.Client(conn, text); e != api.OK && len(got) != 0 {
+			t.Fatalf("P1: beside the error %d: %+v", e, got)
+		}
+		if got, e := g.Dialed(conn, r.Intn(2) == 0); e != api.OK && len(got) != 0 {
+			t.Fatalf("P1: beside the error %d: %+v", e, got)
+		}
+	}
+	for _, text := range []string{strings.Repeat("\r\n", 500000), strings.Repeat(":", 9000000), strings.Repeat("A B ", 250), "CONNECT x:1 HTTP/1.1\r\n" + strings.Repeat("a:\r\n", 240) + "\r\n"} {
+		g := gatewayAt(t, good, 0)
+		accepted(t, g, 1)
+		if got, e := g.Client(1, text); e != api.OK || len(got) != 2 {
+			t.Errorf("P1: Client(%.20q) = %+v, %d", text, got, e)
+		}
+	}
+}
+
+func TestWithAnErrorNothingIsChanged(t *testing.T) {
+	g := gatewayAt(t, good, 0)
+	for i := range 8 {
+		accepted(t, g, i+1)
+	}
+	wantFull(t, g)
+	wantClient(t, g, 1, "CONNECT x")
+	wantNotDialed(t, g, 1)
+	wantNoClient(t, g, 9)
+	wantNoClient(t, g, 0)
+	wantClient(t, g, 1, ":1 HTTP/1.1\r\n"+annSays+"\r\nab", dial(1, "x", 1))
+	wantNotDialed(t, g, 2)
+	wantDialed(t, g, 1, true, toClient(1, api.Go), toHost(1, "ab"))
+	wantNotDialed(t, g, 1)
+	wantClient(t, g, 1, "c", toHost(1, "c"))
+	wantClient(t, g, 8, "\r\n\r\n", refused(8, api.Bad)...)
+	accepted(t, g, 9)
+}
+
+func TestUsersAreNotKeptNorWritten(t *testing.T) {
+	room := append(make([]api.User, 0, 9), people()...)
+	before := slices.Clone(room[:9])
+	g, e, at := New(good, room, 0)
+	if g == nil || e != api.OK || at != 0 {
+		t.Fatalf("P5: New: %d, %d", e, at)
+	}
+	if !slices.Equal(room[:9], before) {
+		t.Errorf("P2: New wrote into the users: %v", room[:9])
+	}
+	for i := range room[:9] {
+		room[:9][i] = api.User{Name: "eve", Secret: "e"}
+	}
+	accepted(t, g, 1)
+	wantClient(t, g, 1, headTo("x:1", annSays), dial(1, "x", 1))
+	accepted(t, g, 2)
+	wantClient(t, g, 2, headTo("x:1", bobSays), dial(2, "x", 1))
+	accepted(t, g, 3)
+	wantClient(t, g, 3, headTo("x:1", "Proxy-Authorization: Basic ZXZlOmU=\r\n"), refused(3, api.Who)...)
+}
+
+// scribble writes into a list, spare room too.
+func scribble(list []api.Event) {
+	list = list[:cap(list)]
+	for i := range list {
+		list[i] = api.Event{Kind: 77, Conn: 77, Text: "scribble", Port: 77}
+	}
+}
+
+func TestEventsAreNewMemory(t *testing.T) {
+	g := gatewayAt(t, good, 0)
+	var kept [][]api.Event
+	keep := func(list []api.Event, e api.Errno) {
+		t.Helper()
+		if e != api.OK {
+			t.Fatalf("an error: %d", e)
+		}
+		kept = append(kept, list)
+	}
+	run := func(conn int, use func([]api.Event, api.Errno)) {
+		use(g.Client(conn, headTo("x:1", annSays)+"a"))
+		use(g.Client(conn, "b"))
+		use(g.Dialed(conn, true))
+		use(g.Client(conn, "c"))
+		use(g.Client(conn, "d"))
+	}
+	accepted(t, g, 1)
+	run(1, keep)
+	accepted(t, g, 2)
+	run(2, func(list []api.Event, _ api.Errno) { scribble(list) })
+	accepted(t, g, 3)
+	keep(g.Client(3, "\r\n\r\n"))
+	want := [][]api.Event{{dial(1, "x", 1)}, nil, {toClient(1, api.Go), toHost(1, "ab")}, {toHost(1, "c")}, {toHost(1, "d")}, refused(3, api.Bad)}
+	for i, list := range kept {
+		if !slices.Equal(list, want[i]) {
+			t.Errorf("P2: list %d became %+v, want %+v", i, list, want[i])
+		}
+		scribble(list)
+	}
+	wantClient(t, g, 1, "e", toHost(1, "e"))
+	wantClient(t, g, 2, "f", toHost(2, "f"))
+}

@@ -1,0 +1,201 @@
+package turnpike
+
+import (
+	"encoding/base64"
+	"math/rand"
+	"net/netip"
+	"regexp"
+	"strconv"
+	"strings"
+	"testing"
+
+	"turnpike/api"
+)
+
+// What follows is a second gateway for P5 to P8, by means that the program does
+// not use; it keeps all that a client ever said, and looks at it anew each time.
+
+var (
+	headForm = regexp.MustCompile(`^([A-Z]+) ([!-~]+) HTTP/1\.[01]\r\n(?:[A-Za-z0-9-]+:[ -~]*\r\n)*\r\n$`)
+	saysWho  = regexp.MustCompile(`(?i)\r\nProxy-Authorization: *([ -~]*?) *\r\n`)
+)
+
+type secondConn struct {
+	said            string
+	called, through bool
+	sent            int // of said, those that are the head's or went to the host
+}
+
+type secondGateway struct {
+	rules  []string
+	minute int
+	last   int
+	conns  map[int]*secondConn
+}
+
+func (g *secondGateway) allows(tenant, host string, port int) bool {
+	for _, line := range g.rules {
+		if fits, _ := lineFits(line, tenant, host, port, g.minute); fits {
+			return strings.HasPrefix(line, "allow")
+		}
+	}
+	return false
+}
+
+func splitTarget(target string) (host string, port int, ok bool) {
+	host, text, _ := strings.Cut(strings.ToLower(target), ":")
+	port, err := strconv.Atoi(text)
+	address, wrong := netip.ParseAddr(host)
+	ok = isName(host) || wrong == nil && address.Is4()
+	return host, port, ok && err == nil && strconv.Itoa(port) == text && 0 <= port && port <= 65535
+}
+
+func (g *secondGateway) look(conn int, head string) []api.Event {
+	m := headForm.FindStringSubmatch(head)
+	if m == nil {
+		return refused(conn, api.Bad)
+	}
+	if m[1] != "CONNECT" {
+		return refused(conn, api.Kind)
+	}
+	host, port, ok := splitTarget(m[2])
+	if !ok {
+		return refused(conn, api.Bad)
+	}
+	// Doubled, so that one line's end is not the next one's beginning as well.
+	who := saysWho.FindAllStringSubmatch(strings.ReplaceAll(head, "\r\n", "\r\n\r\n"), -1)
+	for _, user := range people() {
+		said := "Basic " + base64.StdEncoding.EncodeToString([]byte(user.Name+":"+user.Secret))
+		if len(who) == 1 && who[0][1] == said {
+			if !g.allows(user.Name, host, port) {
+				return refused(conn, api.Deny)
+			}
+			return []api.Event{dial(conn, host, port)}
+		}
+	}
+	return refused(conn, api.Who)
+}
+
+func (g *secondGateway) client(conn int, bytes string) []api.Event {
+	c := g.conns[conn]
+	c.said += bytes
+	if c.through && bytes != "" {
+		c.sent = len(c.said)
+		return []api.Event{toHost(conn, bytes)}
+	}
+	if c.called || c.through {
+		return nil
+	}
+	head, _, there := strings.Cut(c.said, "\r\n\r\n")
+	if head += "\r\n\r\n"; !there || len(head) > 1000 {
+		if len(c.said) < 1000 {
+			return nil
+		}
+		delete(g.conns, conn)
+		return refused(conn, api.Bad)
+	}
+	c.called, c.sent = true, len(head)
+	events := g.look(conn, head)
+	if len(events) == 2 {
+		delete(g.conns, conn)
+	}
+	return events
+}
+
+func (g *secondGateway) dialed(conn int, ok bool) []api.Event {
+	c := g.conns[conn]
+	if !ok {
+		delete(g.conns, conn)
+		return refused(conn, api.Gone)
+	}
+	c.called, c.through = false, true
+	events := []api.Event{toClient(conn, api.Go)}
+	if c.sent < len(c.said) {
+		events = append(events, toHost(conn, c.said[c.sent:]))
+	}
+	c.sent = len(c.said)
+	return events
+}
+
+func randomHead(r *rand.Rand) string {
+	head := pick(r, "CONNECT CONNECT CONNECT CONNECT CONNECT GET connect") + " " +
+		pick(r, "x a.x A.X b.com 1.2.3.4 1.2.3 -x x x a.x") + pick(r, ":1 :2 :2 :80 :080 :65536 : :1 :1") + " " +
+		pick(r, "HTTP/1.1 HTTP/1.1 HTTP/1.0 HTTP/1.0 HTTP/2") + "\r\n"
+	for range r.Intn(3) {
+		head += []string{"Host: x\r\n", "a:\r\n", "A-b:  c \r\n", "wrong\r\n", "a:" + strings.Repeat("b", r.Intn(1200)) + "\r\n"}[r.Intn(5)]
+	}
+	switch r.Intn(8) {
+	case 0:
+	case 1:
+		head += annSays + bobSays
+	case 2, 3:
+		head += bobSays
+	case 4:
+		head += strings.Replace(annSays, "A==", pick(r, "B== A= A===  a=="), 1)
+	default:
+		head += strings.Replace(annSays, "Proxy-Authorization: ", pick(r, "PROXY-AUTHORIZATION: proxy-authorization:"), 1)
+	}
+	head += "\r\n"
+	if at := r.Intn(len(head)); r.Intn(6) == 0 {
+		head = head[:at] + randomText(r, 2) + head[at+1:]
+	}
+	return head
+}
+
+// randomPiece gives what a client says next, of what it has yet to say.
+func randomPiece(r *rand.Rand, rest string) (piece string, left string) {
+	n := len(rest)
+	if r.Intn(2) == 0 {
+		n = r.Intn(len(rest) + 1)
+	}
+	return rest[:n], rest[n:]
+}
+
+func TestGatewayAgainstAReference(t *testing.T) {
+	r := rand.New(rand.NewSource(6))
+	answers := map[string]int{}
+	for range 300 {
+		lines := []string{pick(r, "allow deny") + " ann x * *", "allow * a.x 1-2 5-9", "allow bob 1.2.0.0/16 * *", "allow ann .x * 9-5", "allow * b.com 80 *"}
+		minute := []int{0, 5, 7, 9, 10079}[r.Intn(5)]
+		g, second := gatewayAt(t, strings.Join(lines, "\n")+"\n", minute), &secondGateway{lines, minute, 0, map[int]*secondConn{}}
+		unsaid := map[int]string{}
+		for range 150 {
+			if r.Intn(4) == 0 {
+				if len(second.conns) == 8 {
+					wantFull(t, g)
+				} else {
+					second.last++
+					second.conns[second.last] = &secondConn{}
+					unsaid[second.last] = randomHead(r) + randomText(r, 20)
+					accepted(t, g, second.last)
+				}
+			}
+			conn := second.last - 10 + r.Intn(12)
+			c := second.conns[conn]
+			if c == nil {
+				wantNoClient(t, g, conn)
+				wantNotDialed(t, g, conn)
+				continue
+			}
+			if !c.called {
+				wantNotDialed(t, g, conn)
+			} else if r.Intn(2) == 0 {
+				ok := r.Intn(3) > 0
+				wantDialed(t, g, conn, ok, second.dialed(conn, ok)...)
+				continue
+			}
+			piece, rest := randomPiece(r, unsaid[conn])
+			unsaid[conn] = rest
+			want := second.client(conn, piece)
+			if len(want) > 0 {
+				answers[want[0].Text]++
+			}
+			wantClient(t, g, conn, piece, want...)
+		}
+	}
+	for _, answer := range []string{api.Bad, api.Kind, api.Who, api.Deny, "x", "a.x"} {
+		if answers[answer] < 50 {
+			t.Errorf("%q was tried only %d times", answer, answers[answer])
+		}
+	}
+}
