@@ -39,6 +39,15 @@ func (l *link) send(kind int, text string) []api.Event {
 	return []api.Event{sent}
 }
 
+// shut gives the events by which those get nothing more.
+func (l *link) shut(kinds ...int) []api.Event {
+	var events []api.Event
+	for _, kind := range kinds {
+		events = append(events, l.event(kind))
+	}
+	return events
+}
+
 func (l *link) dial(target heads.Target) []api.Event {
 	dial := l.event(api.Dial)
 	dial.Text, dial.Port = target.Host, target.Port
@@ -50,7 +59,16 @@ type conn struct {
 	link
 	stage   stage
 	waiting []byte // the client's: what there is of its head; behind that, what is for the host
+	// Which side has ended: at the stage through alone, as ahead of it a
+	// connection is over with its client, and its host can't end.
+	clientEnded, hostEnded bool
 }
+
+// mayHearClient tells whether something of the client's may come yet.
+func (c *conn) mayHearClient() bool { return !c.clientEnded }
+
+// mayHearHost tells whether something of the host's may come by now, and yet.
+func (c *conn) mayHearHost() bool { return c.stage == through && !c.hostEnded }
 
 func (c *conn) wait(text string) { c.waiting = append(c.waiting, text...) }
 

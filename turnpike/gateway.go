@@ -61,7 +61,29 @@ func (g *Gateway) tenantOf(head heads.Head) (name string, known bool) {
 // refuse answers the client, and the connection is over.
 func (g *Gateway) refuse(c *conn, answer string) []api.Event {
 	g.drop(c)
-	return append(c.send(api.ToClient, answer), c.event(api.ShutClient))
+	return append(c.send(api.ToClient, answer), c.shut(api.ShutClient)...)
+}
+
+// leave takes it that the client has ended; unless its host has answered, there
+// is nobody left for whom the connection would stay open.
+func (g *Gateway) leave(c *conn) []api.Event {
+	switch c.stage {
+	case heading:
+		g.drop(c)
+		return c.shut(api.ShutClient)
+	case calling:
+		g.drop(c)
+		return c.shut(api.ShutClient, api.ShutHost)
+	}
+	c.clientEnded = true
+	g.dropIfBothEnded(c)
+	return c.shut(api.ShutHost)
+}
+
+func (g *Gateway) dropIfBothEnded(c *conn) {
+	if c.clientEnded && c.hostEnded {
+		g.drop(c)
+	}
 }
 
 func (g *Gateway) drop(c *conn) {

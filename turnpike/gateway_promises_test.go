@@ -9,6 +9,20 @@ import (
 	"turnpike/api"
 )
 
+func anyCall(r *rand.Rand, g *Gateway, conn int, text string) ([]api.Event, api.Errno) {
+	switch r.Intn(12) {
+	case 0:
+		return g.EndClient(conn)
+	case 1:
+		return g.EndHost(conn)
+	case 2, 3, 4:
+		return g.Host(conn, text)
+	case 5, 6, 7:
+		return g.Dialed(conn, r.Intn(3) > 0)
+	}
+	return g.Client(conn, text)
+}
+
 func TestNoCallOfAGatewayPanics(t *testing.T) {
 	r := rand.New(rand.NewSource(5))
 	for range 2000 {
@@ -21,20 +35,22 @@ func TestNoCallOfAGatewayPanics(t *testing.T) {
 		}
 	}
 	g := gatewayAt(t, good, 0)
-	for range 20000 {
+	for range 40000 {
 		g.Accept()
-		conn := g.last - 9 + r.Intn(11)
-		if r.Intn(10) == 0 {
+		// Of those that are open, or Accept would soon have no room left.
+		conn := g.conns[r.Intn(len(g.conns))].number
+		switch r.Intn(10) {
+		case 0:
 			conn = r.Int() - r.Int()
+		case 1:
+			conn = g.last - 9 + r.Intn(11)
 		}
 		text := randomText(r, 300)
 		if r.Intn(3) == 0 {
 			text = headTo("x:1", annSays) + text
 		}
-		if got, e := g.Client(conn, text); e != api.OK && len(got) != 0 {
-			t.Fatalf("P1: beside the error %d: %+v", e, got)
-		}
-		if got, e := g.Dialed(conn, r.Intn(2) == 0); e != api.OK && len(got) != 0 {
+		got, e := anyCall(r, g, conn, text)
+		if e != api.OK && e != api.ErrConn || e != api.OK && len(got) != 0 {
 			t.Fatalf("P1: beside the error %d: %+v", e, got)
 		}
 	}
@@ -64,6 +80,26 @@ func TestWithAnErrorNothingIsChanged(t *testing.T) {
 	wantClient(t, g, 1, "c", toHost(1, "c"))
 	wantClient(t, g, 8, "\r\n\r\n", refused(8, api.Bad)...)
 	accepted(t, g, 9)
+}
+
+func TestWithAnErrorNothingHasEnded(t *testing.T) {
+	g := gatewayAt(t, good, 0)
+	called(t, g, 1)
+	wantClient(t, g, 1, "a")
+	// Too early: the host's end counts only once it has answered.
+	wantNothingOfHost(t, g, 1)
+	wantDialed(t, g, 1, true, toClient(1, api.Go), toHost(1, "a"))
+	wantHost(t, g, 1, "b", toClient(1, "b"))
+	wantEndClient(t, g, 1, shutHost(1))
+	// A second end of the client is not the host's.
+	wantNoMoreOfClient(t, g, 1)
+	wantHost(t, g, 1, "c", toClient(1, "c"))
+	joined(t, g, 2)
+	wantEndHost(t, g, 2, shutClient(2))
+	wantNothingOfHost(t, g, 2)
+	wantClient(t, g, 2, "d", toHost(2, "d"))
+	wantOver(t, g, 3)
+	accepted(t, g, 3)
 }
 
 func TestUsersAreNotKeptNorWritten(t *testing.T) {
@@ -111,6 +147,8 @@ func TestEventsAreNewMemory(t *testing.T) {
 		use(g.Dialed(conn, true))
 		use(g.Client(conn, "c"))
 		use(g.Client(conn, "d"))
+		use(g.Host(conn, "y"))
+		use(g.Host(conn, "z"))
 	}
 	accepted(t, g, 1)
 	run(1, keep)
@@ -118,7 +156,14 @@ func TestEventsAreNewMemory(t *testing.T) {
 	run(2, func(list []api.Event, _ api.Errno) { scribble(list) })
 	accepted(t, g, 3)
 	keep(g.Client(3, "\r\n\r\n"))
-	want := [][]api.Event{{dial(1, "x", 1)}, nil, {toClient(1, api.Go), toHost(1, "ab")}, {toHost(1, "c")}, {toHost(1, "d")}, refused(3, api.Bad)}
+	accepted(t, g, 4)
+	keep(g.EndClient(4))
+	called(t, g, 5)
+	keep(g.EndClient(5))
+	joined(t, g, 6)
+	keep(g.EndHost(6))
+	keep(g.EndClient(6))
+	want := [][]api.Event{{dial(1, "x", 1)}, nil, {toClient(1, api.Go), toHost(1, "ab")}, {toHost(1, "c")}, {toHost(1, "d")}, {toClient(1, "y")}, {toClient(1, "z")}, refused(3, api.Bad), {shutClient(4)}, {shutClient(5), shutHost(5)}, {shutClient(6)}, {shutHost(6)}}
 	for i, list := range kept {
 		if !slices.Equal(list, want[i]) {
 			t.Errorf("P2: list %d became %+v, want %+v", i, list, want[i])
@@ -127,4 +172,9 @@ func TestEventsAreNewMemory(t *testing.T) {
 	}
 	wantClient(t, g, 1, "e", toHost(1, "e"))
 	wantClient(t, g, 2, "f", toHost(2, "f"))
+	wantHost(t, g, 1, "g", toClient(1, "g"))
+	wantEndClient(t, g, 1, shutHost(1))
+	wantEndHost(t, g, 1, shutClient(1))
+	wantEndHost(t, g, 2, shutClient(2))
+	wantEndClient(t, g, 2, shutHost(2))
 }

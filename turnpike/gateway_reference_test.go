@@ -2,9 +2,11 @@ package turnpike
 
 import (
 	"encoding/base64"
+	"maps"
 	"math/rand"
 	"net/netip"
 	"regexp"
+	"slices"
 	"strconv"
 	"strings"
 	"testing"
@@ -12,7 +14,7 @@ import (
 	"turnpike/api"
 )
 
-// What follows is a second gateway for P5 to P8, by means that the program does
+// What follows is a second gateway for P5 to P10, by means that the program does
 // not use; it keeps all that a client ever said, and looks at it anew each time.
 
 var (
@@ -20,10 +22,12 @@ var (
 	saysWho  = regexp.MustCompile(`(?i)\r\nProxy-Authorization: *([ -~]*?) *\r\n`)
 )
 
+// secondConn has in open the calls that may come: c Client and EndClient,
+// d Dialed, h Host and EndHost.
 type secondConn struct {
-	said            string
-	called, through bool
-	sent            int // of said, those that are the head's or went to the host
+	said string
+	open string
+	sent int // of said, those that are the head's or went to the host
 }
 
 type secondGateway struct {
@@ -31,6 +35,48 @@ type secondGateway struct {
 	minute int
 	last   int
 	conns  map[int]*secondConn
+}
+
+func (g *secondGateway) may(conn int, call string) bool {
+	c := g.conns[conn]
+	return c != nil && strings.Contains(c.open, call)
+}
+
+func (g *secondGateway) accept() {
+	g.last++
+	g.conns[g.last] = &secondConn{open: "c"}
+}
+
+// closeFor takes it that one side has ended, and gives what the other is told.
+func (g *secondGateway) closeFor(conn int, side string, told ...api.Event) []api.Event {
+	c := g.conns[conn]
+	if c.open = strings.Replace(c.open, side, "", 1); c.open == "" {
+		delete(g.conns, conn)
+	}
+	return told
+}
+
+func (g *secondGateway) endClient(conn int) []api.Event {
+	switch c := g.conns[conn]; {
+	case c.sent == 0:
+		delete(g.conns, conn)
+		return []api.Event{shutClient(conn)}
+	case c.open == "cd":
+		delete(g.conns, conn)
+		return []api.Event{shutClient(conn), shutHost(conn)}
+	}
+	return g.closeFor(conn, "c", shutHost(conn))
+}
+
+func (g *secondGateway) endHost(conn int) []api.Event {
+	return g.closeFor(conn, "h", shutClient(conn))
+}
+
+func (g *secondGateway) host(conn int, bytes string) []api.Event {
+	if bytes == "" {
+		return nil
+	}
+	return []api.Event{toClient(conn, bytes)}
 }
 
 func (g *secondGateway) allows(tenant, host string, port int) bool {
@@ -79,12 +125,11 @@ func (g *secondGateway) look(conn int, head string) []api.Event {
 func (g *secondGateway) client(conn int, bytes string) []api.Event {
 	c := g.conns[conn]
 	c.said += bytes
-	if c.through && bytes != "" {
-		c.sent = len(c.said)
-		return []api.Event{toHost(conn, bytes)}
-	}
-	if c.called || c.through {
+	if c.open == "cd" {
 		return nil
+	}
+	if c.sent > 0 {
+		return c.unsent(conn)
 	}
 	head, _, there := strings.Cut(c.said, "\r\n\r\n")
 	if head += "\r\n\r\n"; !there || len(head) > 1000 {
@@ -94,7 +139,7 @@ func (g *secondGateway) client(conn int, bytes string) []api.Event {
 		delete(g.conns, conn)
 		return refused(conn, api.Bad)
 	}
-	c.called, c.sent = true, len(head)
+	c.open, c.sent = "cd", len(head)
 	events := g.look(conn, head)
 	if len(events) == 2 {
 		delete(g.conns, conn)
@@ -108,13 +153,16 @@ func (g *secondGateway) dialed(conn int, ok bool) []api.Event {
 		delete(g.conns, conn)
 		return refused(conn, api.Gone)
 	}
-	c.called, c.through = false, true
-	events := []api.Event{toClient(conn, api.Go)}
-	if c.sent < len(c.said) {
-		events = append(events, toHost(conn, c.said[c.sent:]))
+	c.open = "ch"
+	return append([]api.Event{toClient(conn, api.Go)}, c.unsent(conn)...)
+}
+
+func (c *secondConn) unsent(conn int) []api.Event {
+	rest := c.said[c.sent:]
+	if c.sent = len(c.said); rest == "" {
+		return nil
 	}
-	c.sent = len(c.said)
-	return events
+	return []api.Event{toHost(conn, rest)}
 }
 
 func randomHead(r *rand.Rand) string {
@@ -151,49 +199,84 @@ func randomPiece(r *rand.Rand, rest string) (piece string, left string) {
 	return rest[:n], rest[n:]
 }
 
+// step makes one call at random of both gateways, and tells which; of what may
+// not come every call is refused.
+func step(t *testing.T, r *rand.Rand, g *Gateway, second *secondGateway, conn int, unsaid map[int]string) (call string, want []api.Event) {
+	t.Helper()
+	if !second.may(conn, "c") {
+		wantNoMoreOfClient(t, g, conn)
+	}
+	if !second.may(conn, "d") {
+		wantNotDialed(t, g, conn)
+	}
+	if !second.may(conn, "h") {
+		wantNothingOfHost(t, g, conn)
+	}
+	switch n := r.Intn(20); {
+	case n == 0 && second.may(conn, "c"):
+		want = second.endClient(conn)
+		wantEndClient(t, g, conn, want...)
+		return "end of a client", want
+	case n < 3 && second.may(conn, "h"):
+		want = second.endHost(conn)
+		wantEndHost(t, g, conn, want...)
+		return "end of a host", want
+	case n < 10 && second.may(conn, "d"):
+		ok := r.Intn(3) > 0
+		want = second.dialed(conn, ok)
+		wantDialed(t, g, conn, ok, want...)
+		return "dialed", want
+	case n < 10 && second.may(conn, "h"):
+		bytes := randomText(r, 3)
+		want = second.host(conn, bytes)
+		wantHost(t, g, conn, bytes, want...)
+		return "host", want
+	case second.may(conn, "c"):
+		piece, rest := randomPiece(r, unsaid[conn])
+		unsaid[conn] = rest
+		want = second.client(conn, piece)
+		wantClient(t, g, conn, piece, want...)
+		return "client", want
+	}
+	return "none", nil
+}
+
 func TestGatewayAgainstAReference(t *testing.T) {
 	r := rand.New(rand.NewSource(6))
 	answers := map[string]int{}
-	for range 300 {
-		lines := []string{pick(r, "allow deny") + " ann x * *", "allow * a.x 1-2 5-9", "allow bob 1.2.0.0/16 * *", "allow ann .x * 9-5", "allow * b.com 80 *"}
+	for range 400 {
+		lines := []string{pick(r, "allow allow deny") + " ann x * *", "allow * a.x 1-2 5-9", "allow bob 1.2.0.0/16 * *", "allow ann .x * 9-5", "allow * b.com 80 *"}
 		minute := []int{0, 5, 7, 9, 10079}[r.Intn(5)]
 		g, second := gatewayAt(t, strings.Join(lines, "\n")+"\n", minute), &secondGateway{lines, minute, 0, map[int]*secondConn{}}
 		unsaid := map[int]string{}
-		for range 150 {
-			if r.Intn(4) == 0 {
-				if len(second.conns) == 8 {
-					wantFull(t, g)
-				} else {
-					second.last++
-					second.conns[second.last] = &secondConn{}
-					unsaid[second.last] = randomHead(r) + randomText(r, 20)
-					accepted(t, g, second.last)
+		for range 200 {
+			if len(second.conns) == 8 {
+				wantFull(t, g)
+			} else if r.Intn(4) == 0 {
+				second.accept()
+				head := headTo("b.com:80", annSays)
+				if r.Intn(2) == 0 {
+					head = randomHead(r)
 				}
+				unsaid[second.last] = head + randomText(r, 20)
+				accepted(t, g, second.last)
 			}
 			conn := second.last - 10 + r.Intn(12)
-			c := second.conns[conn]
-			if c == nil {
-				wantNoClient(t, g, conn)
-				wantNotDialed(t, g, conn)
-				continue
+			if open := slices.Sorted(maps.Keys(second.conns)); len(open) > 0 && r.Intn(4) > 0 {
+				conn = open[r.Intn(len(open))]
 			}
-			if !c.called {
-				wantNotDialed(t, g, conn)
-			} else if r.Intn(2) == 0 {
-				ok := r.Intn(3) > 0
-				wantDialed(t, g, conn, ok, second.dialed(conn, ok)...)
-				continue
-			}
-			piece, rest := randomPiece(r, unsaid[conn])
-			unsaid[conn] = rest
-			want := second.client(conn, piece)
-			if len(want) > 0 {
+			call, want := step(t, r, g, second, conn, unsaid)
+			if call == "client" && len(want) > 0 {
 				answers[want[0].Text]++
 			}
-			wantClient(t, g, conn, piece, want...)
+			over := ""
+			if second.conns[conn] == nil {
+				over = ", over"
+			}
+			answers[call+over]++
 		}
 	}
-	for _, answer := range []string{api.Bad, api.Kind, api.Who, api.Deny, "x", "a.x"} {
+	for _, answer := range []string{api.Bad, api.Kind, api.Who, api.Deny, "x", "a.x", "dialed", "dialed, over", "host", "end of a client", "end of a client, over", "end of a host", "end of a host, over"} {
 		if answers[answer] < 50 {
 			t.Errorf("%q was tried only %d times", answer, answers[answer])
 		}

@@ -98,7 +98,6 @@ func headTo(target, lines string) string {
 
 func TestNew(t *testing.T) {
 	user := func(name, secret string) api.User { return api.User{Name: name, Secret: secret} }
-	const most = int(^uint(0) >> 1)
 	var eight []api.User
 	for _, name := range []string{"a", "b", "c", "d", "e", "f", "g", "letterss"} {
 		eight = append(eight, user(name, "twelveletter"))
@@ -116,7 +115,7 @@ func TestNew(t *testing.T) {
 		{"", []api.User{user("a", "x"), user("a", "y")}, 0, api.ErrUser, 1}, {"", []api.User{user("a", "x"), user("b", "x"), user("a", "x"), user("", "")}, 0, api.ErrUser, 2}, {"", []api.User{user("a", "x"), user("b", "x")}, 0, api.OK, 0},
 		{"", []api.User{user("a", ""), user("a", "x")}, 0, api.ErrUser, 0}, {"", []api.User{user("b", "x"), user("a", ""), user("a", "x")}, 0, api.ErrUser, 1},
 		{"", []api.User{user("A", "x")}, 0, api.ErrUser, 0}, {"", []api.User{user("ninelette", "x")}, 0, api.ErrUser, 0}, {"", []api.User{user("a", "thirteenchars")}, 0, api.ErrUser, 0}, {"", []api.User{user("a", "\x7f")}, 0, api.ErrUser, 0}, {"", []api.User{user("a", " ")}, 0, api.ErrUser, 0},
-		{"", nil, -1, api.ErrAsk, 0}, {"", nil, 10080, api.ErrAsk, 0}, {"", nil, most, api.ErrAsk, 0}, {"", nil, -most - 1, api.ErrAsk, 0}, {good, eight, 10080, api.ErrAsk, 0},
+		{"", nil, -1, api.ErrAsk, 0}, {"", nil, 10080, api.ErrAsk, 0}, {"", nil, most, api.ErrAsk, 0}, {"", nil, least, api.ErrAsk, 0}, {good, eight, 10080, api.ErrAsk, 0},
 		{"x", make([]api.User, 9), -1, api.ErrRule, 1}, {good + "x\n", make([]api.User, 8), -1, api.ErrRule, 2}, {good + good[:13], nil, 0, api.ErrRule, 2}, {strings.Repeat(good, 41), make([]api.User, 9), 0, api.ErrMany, 41}, {strings.Repeat(" ", 4001), make([]api.User, 9), -1, api.ErrLong, 0},
 	} {
 		g, e, at := New(c.text, c.users, c.minute)
@@ -337,12 +336,11 @@ func TestBytesWaitForTheHost(t *testing.T) {
 }
 
 func TestDialed(t *testing.T) {
-	const most = int(^uint(0) >> 1)
 	g := gatewayAt(t, good, 0)
 	for i := range 3 {
 		accepted(t, g, i+1)
 	}
-	for _, conn := range []int{0, 1, 2, 3, 4, -1, most, -most - 1} {
+	for _, conn := range []int{0, 1, 2, 3, 4, -1, most, least} {
 		wantNotDialed(t, g, conn)
 	}
 	wantClient(t, g, 1, headTo("a:1", annSays), dial(1, "a", 1))
@@ -354,7 +352,7 @@ func TestDialed(t *testing.T) {
 	wantDialed(t, g, 1, true, toClient(1, api.Go))
 	wantNotDialed(t, g, 1)
 	wantClient(t, g, 1, "abc", toHost(1, "abc"))
-	for _, conn := range []int{0, 2, 4, -1, most, -most - 1} {
+	for _, conn := range []int{0, 2, 4, -1, most, least} {
 		wantNoClient(t, g, conn)
 	}
 }

@@ -180,7 +180,6 @@ func TestDecidePortsAndMinutes(t *testing.T) {
 }
 
 func TestDecideRefusesQuestions(t *testing.T) {
-	const most = int(^uint(0) >> 1)
 	for _, text := range []string{"", good, "deny * * * *\n"} {
 		p := compiled(t, text)
 		for _, tenant := range []string{"", "*", "Ann", "a1", "ninelette", "a b", "ann\n", "\xff", strings.Repeat("a", 1000000)} {
@@ -189,10 +188,10 @@ func TestDecideRefusesQuestions(t *testing.T) {
 		for _, host := range []string{"", "*", ".", ".a", "a.", "a..b", "-a", "a-", "a_b", "1", "a.1", "1.2.3", "1.2.3.4.5", "1.2.3.256", "01.2.3.4", "1.2.3.4/32", "a.b.c.d.e.f", strings.Repeat("a", 21), "x\n", " x", "x:1", "\xff", "\u212a", "\u0130.com", strings.Repeat("a.", 1000000), strings.Repeat("1", 1000000)} {
 			wantRefused(t, p, "ann", host, 1, 1)
 		}
-		for _, port := range []int{-1, 65536, most, -most - 1} {
+		for _, port := range []int{-1, 65536, most, least} {
 			wantRefused(t, p, "ann", "x", port, 1)
 		}
-		for _, minute := range []int{-1, 10080, most, -most - 1} {
+		for _, minute := range []int{-1, 10080, most, least} {
 			wantRefused(t, p, "ann", "x", 1, minute)
 		}
 		wantRefused(t, p, "", "", -1, -1)

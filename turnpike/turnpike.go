@@ -102,7 +102,7 @@ func (g *Gateway) Accept() (int, api.Errno) {
 // Client takes in bytes of a client's (P7).
 func (g *Gateway) Client(conn int, bytes string) ([]api.Event, api.Errno) {
 	c := g.find(conn)
-	if c == nil {
+	if c == nil || !c.mayHearClient() {
 		return nil, api.ErrConn
 	}
 	c.heard()
@@ -135,13 +135,34 @@ func (g *Gateway) Dialed(conn int, ok bool) ([]api.Event, api.Errno) {
 }
 
 // Host takes in bytes of a host's (P9).
-func (g *Gateway) Host(conn int, bytes string) ([]api.Event, api.Errno) { return nil, api.OK }
+func (g *Gateway) Host(conn int, bytes string) ([]api.Event, api.Errno) {
+	c := g.find(conn)
+	if c == nil || !c.mayHearHost() {
+		return nil, api.ErrConn
+	}
+	c.heard()
+	return c.send(api.ToClient, bytes), api.OK
+}
 
 // EndClient tells that a client sends nothing more (P10).
-func (g *Gateway) EndClient(conn int) ([]api.Event, api.Errno) { return nil, api.OK }
+func (g *Gateway) EndClient(conn int) ([]api.Event, api.Errno) {
+	c := g.find(conn)
+	if c == nil || !c.mayHearClient() {
+		return nil, api.ErrConn
+	}
+	return g.leave(c), api.OK
+}
 
 // EndHost tells that a host sends nothing more (P10).
-func (g *Gateway) EndHost(conn int) ([]api.Event, api.Errno) { return nil, api.OK }
+func (g *Gateway) EndHost(conn int) ([]api.Event, api.Errno) {
+	c := g.find(conn)
+	if c == nil || !c.mayHearHost() {
+		return nil, api.ErrConn
+	}
+	c.hostEnded = true
+	g.dropIfBothEnded(c)
+	return c.shut(api.ShutClient), api.OK
+}
 
 // Tick lets minutes go by (P11).
 func (g *Gateway) Tick(minutes int) ([]api.Event, api.Errno) { return nil, api.OK }
