@@ -70,6 +70,19 @@ func (c *conn) mayHearClient() bool { return !c.clientEnded }
 // mayHearHost tells whether something of the host's may come by now, and yet.
 func (c *conn) mayHearHost() bool { return c.stage == through && !c.hostEnded }
 
+// unshut gives the kinds of the events that shut what is not shut yet: where one
+// side has ended, the other was shut with that.
+func (c *conn) unshut() []int {
+	var kinds []int
+	if !c.hostEnded {
+		kinds = append(kinds, api.ShutClient)
+	}
+	if c.stage != heading && !c.clientEnded {
+		kinds = append(kinds, api.ShutHost)
+	}
+	return kinds
+}
+
 func (c *conn) wait(text string) { c.waiting = append(c.waiting, text...) }
 
 // takeWaiting gives the bytes that wait; none are left.

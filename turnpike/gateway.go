@@ -67,17 +67,27 @@ func (g *Gateway) refuse(c *conn, answer string) []api.Event {
 // leave takes it that the client has ended; unless its host has answered, there
 // is nobody left for whom the connection would stay open.
 func (g *Gateway) leave(c *conn) []api.Event {
-	switch c.stage {
-	case heading:
-		g.drop(c)
-		return c.shut(api.ShutClient)
-	case calling:
-		g.drop(c)
-		return c.shut(api.ShutClient, api.ShutHost)
+	if c.stage != through {
+		return g.abandon(c)
 	}
 	c.clientEnded = true
 	g.dropIfBothEnded(c)
 	return c.shut(api.ShutHost)
+}
+
+// age lets minutes go by for a connection, which is over if it was silent too long.
+func (g *Gateway) age(c *conn, minutes int) []api.Event {
+	c.silent += minutes
+	if c.silent < api.MaxIdle {
+		return nil
+	}
+	return g.abandon(c)
+}
+
+// abandon ends a connection on both sides, so far as they are open.
+func (g *Gateway) abandon(c *conn) []api.Event {
+	g.drop(c)
+	return c.shut(c.unshut()...)
 }
 
 func (g *Gateway) dropIfBothEnded(c *conn) {

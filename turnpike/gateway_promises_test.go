@@ -23,6 +23,18 @@ func anyCall(r *rand.Rand, g *Gateway, conn int, text string) ([]api.Event, api.
 	return g.Client(conn, text)
 }
 
+// anyTickOrReload gives a fault, if what the call answers may not be.
+func anyTickOrReload(r *rand.Rand, g *Gateway, text string) (fault string) {
+	minutes := []int{r.Int() - r.Int(), r.Intn(6), r.Intn(20000) - 5000}[r.Intn(3)]
+	if got, e := g.Tick(minutes); e != api.OK && (e != api.ErrAsk || len(got) != 0) {
+		return "Tick"
+	}
+	if e, at := g.Reload([]string{text, good, good + text}[r.Intn(3)]); e != api.OK && e != api.ErrRule || e == api.OK && at != 0 {
+		return "Reload"
+	}
+	return ""
+}
+
 func TestNoCallOfAGatewayPanics(t *testing.T) {
 	r := rand.New(rand.NewSource(5))
 	for range 2000 {
@@ -52,6 +64,11 @@ func TestNoCallOfAGatewayPanics(t *testing.T) {
 		got, e := anyCall(r, g, conn, text)
 		if e != api.OK && e != api.ErrConn || e != api.OK && len(got) != 0 {
 			t.Fatalf("P1: beside the error %d: %+v", e, got)
+		}
+		if r.Intn(5) == 0 {
+			if fault := anyTickOrReload(r, g, text); fault != "" {
+				t.Fatalf("P1: a wrong answer of %s", fault)
+			}
 		}
 	}
 	for _, text := range []string{strings.Repeat("\r\n", 500000), strings.Repeat(":", 9000000), strings.Repeat("A B ", 250), "CONNECT x:1 HTTP/1.1\r\n" + strings.Repeat("a:\r\n", 240) + "\r\n"} {
@@ -177,4 +194,22 @@ func TestEventsAreNewMemory(t *testing.T) {
 	wantEndHost(t, g, 1, shutClient(1))
 	wantEndHost(t, g, 2, shutClient(2))
 	wantEndClient(t, g, 2, shutHost(2))
+}
+
+func TestEventsOfTickAreNewMemory(t *testing.T) {
+	g := gatewayAt(t, good, 0)
+	called(t, g, 1)
+	called(t, g, 2)
+	wantTick(t, g, 5)
+	joined(t, g, 3)
+	joined(t, g, 4)
+	first, _ := g.Tick(5)
+	accepted(t, g, 5)
+	second, _ := g.Tick(5)
+	scribble(first)
+	wantEvents(t, "P2: Tick, behind a write into an earlier list", second, api.OK, []api.Event{shutClient(3), shutHost(3), shutClient(4), shutHost(4)})
+	scribble(second)
+	none, _ := g.Tick(4)
+	scribble(none)
+	wantTick(t, g, 1, shutClient(5))
 }

@@ -14,8 +14,10 @@ import (
 	"turnpike/api"
 )
 
-// What follows is a second gateway for P5 to P10, by means that the program does
+// What follows is a second gateway for P5 to P12, by means that the program does
 // not use; it keeps all that a client ever said, and looks at it anew each time.
+// Its time does not turn round with the week, and no silence is counted: it is
+// reckoned from when something was heard.
 
 var (
 	headForm = regexp.MustCompile(`^([A-Z]+) ([!-~]+) HTTP/1\.[01]\r\n(?:[A-Za-z0-9-]+:[ -~]*\r\n)*\r\n$`)
@@ -28,13 +30,14 @@ type secondConn struct {
 	said string
 	open string
 	sent int // of said, those that are the head's or went to the host
+	when int // the time at which it was accepted or heard something
 }
 
 type secondGateway struct {
-	rules  []string
-	minute int
-	last   int
-	conns  map[int]*secondConn
+	rules []string
+	time  int
+	last  int
+	conns map[int]*secondConn
 }
 
 func (g *secondGateway) may(conn int, call string) bool {
@@ -44,7 +47,25 @@ func (g *secondGateway) may(conn int, call string) bool {
 
 func (g *secondGateway) accept() {
 	g.last++
-	g.conns[g.last] = &secondConn{open: "c"}
+	g.conns[g.last] = &secondConn{open: "c", when: g.time}
+}
+
+func (g *secondGateway) tick(minutes int) (events []api.Event) {
+	g.time += minutes
+	for _, conn := range slices.Sorted(maps.Keys(g.conns)) {
+		c := g.conns[conn]
+		if g.time-c.when < 10 {
+			continue
+		}
+		delete(g.conns, conn)
+		if c.open != "c" || c.sent == 0 {
+			events = append(events, shutClient(conn))
+		}
+		if c.open != "h" && c.sent > 0 {
+			events = append(events, shutHost(conn))
+		}
+	}
+	return events
 }
 
 // closeFor takes it that one side has ended, and gives what the other is told.
@@ -73,6 +94,7 @@ func (g *secondGateway) endHost(conn int) []api.Event {
 }
 
 func (g *secondGateway) host(conn int, bytes string) []api.Event {
+	g.conns[conn].when = g.time
 	if bytes == "" {
 		return nil
 	}
@@ -81,7 +103,7 @@ func (g *secondGateway) host(conn int, bytes string) []api.Event {
 
 func (g *secondGateway) allows(tenant, host string, port int) bool {
 	for _, line := range g.rules {
-		if fits, _ := lineFits(line, tenant, host, port, g.minute); fits {
+		if fits, _ := lineFits(line, tenant, host, port, g.time%10080); fits {
 			return strings.HasPrefix(line, "allow")
 		}
 	}
@@ -124,6 +146,7 @@ func (g *secondGateway) look(conn int, head string) []api.Event {
 
 func (g *secondGateway) client(conn int, bytes string) []api.Event {
 	c := g.conns[conn]
+	c.when = g.time
 	c.said += bytes
 	if c.open == "cd" {
 		return nil
@@ -153,7 +176,7 @@ func (g *secondGateway) dialed(conn int, ok bool) []api.Event {
 		delete(g.conns, conn)
 		return refused(conn, api.Gone)
 	}
-	c.open = "ch"
+	c.open, c.when = "ch", g.time
 	return append([]api.Event{toClient(conn, api.Go)}, c.unsent(conn)...)
 }
 
@@ -241,12 +264,44 @@ func step(t *testing.T, r *rand.Rand, g *Gateway, second *secondGateway, conn in
 	return "none", nil
 }
 
+// randomRules gives rules some of which are for minutes about this one.
+func randomRules(r *rand.Rand, minute int) []string {
+	near := func() string { return strconv.Itoa((minute + 10080 + r.Intn(9) - 4) % 10080) }
+	lines := []string{"allow * b.com 80 *", pick(r, "allow allow deny") + " ann x * " + near() + "-" + near(), "allow * a.x 1-2 " + near() + "-" + near(), "allow bob 1.2.0.0/16 * *", "allow ann .x * " + near() + "-" + near()}
+	r.Shuffle(len(lines), func(i, j int) { lines[i], lines[j] = lines[j], lines[i] })
+	return lines[r.Intn(3):]
+}
+
+// pass makes a call at random that is of no one connection, of both gateways.
+func pass(t *testing.T, r *rand.Rand, g *Gateway, second *secondGateway) (call string) {
+	t.Helper()
+	switch n := r.Intn(20); {
+	case n == 0:
+		wantNoTick(t, g, []int{0, -1, 10080, r.Int() + 10080, -r.Int()}[r.Intn(5)])
+		return "wrong tick"
+	case n < 14:
+		minutes := []int{1, 1, 1, 1, 2, 2, 3, 4, 5, 9, 10, 11, 10078 + r.Intn(2), 1 + r.Intn(10079)}[r.Intn(14)]
+		want := second.tick(minutes)
+		wantTick(t, g, minutes, want...)
+		return "tick" + []string{"", ", over"}[min(len(want), 1)]
+	case n < 16:
+		lines := randomRules(r, second.time)
+		wrong := r.Intn(len(lines))
+		lines[wrong] = pick(r, "allow deny") + randomText(r, 20) + "\n" + lines[wrong]
+		wantNoReload(t, g, strings.Join(lines, "\n")+"\n", api.ErrRule, wrong+1)
+		return "wrong reload"
+	}
+	second.rules = randomRules(r, second.time)
+	reloaded(t, g, strings.Join(second.rules, "\n")+"\n")
+	return "reload"
+}
+
 func TestGatewayAgainstAReference(t *testing.T) {
 	r := rand.New(rand.NewSource(6))
 	answers := map[string]int{}
 	for range 400 {
-		lines := []string{pick(r, "allow allow deny") + " ann x * *", "allow * a.x 1-2 5-9", "allow bob 1.2.0.0/16 * *", "allow ann .x * 9-5", "allow * b.com 80 *"}
-		minute := []int{0, 5, 7, 9, 10079}[r.Intn(5)]
+		minute := []int{0, 5, 5000, 10072, 10079}[r.Intn(5)]
+		lines := randomRules(r, minute)
 		g, second := gatewayAt(t, strings.Join(lines, "\n")+"\n", minute), &secondGateway{lines, minute, 0, map[int]*secondConn{}}
 		unsaid := map[int]string{}
 		for range 200 {
@@ -265,6 +320,9 @@ func TestGatewayAgainstAReference(t *testing.T) {
 			if open := slices.Sorted(maps.Keys(second.conns)); len(open) > 0 && r.Intn(4) > 0 {
 				conn = open[r.Intn(len(open))]
 			}
+			if r.Intn(8) == 0 {
+				answers[pass(t, r, g, second)]++
+			}
 			call, want := step(t, r, g, second, conn, unsaid)
 			if call == "client" && len(want) > 0 {
 				answers[want[0].Text]++
@@ -276,7 +334,7 @@ func TestGatewayAgainstAReference(t *testing.T) {
 			answers[call+over]++
 		}
 	}
-	for _, answer := range []string{api.Bad, api.Kind, api.Who, api.Deny, "x", "a.x", "dialed", "dialed, over", "host", "end of a client", "end of a client, over", "end of a host", "end of a host, over"} {
+	for _, answer := range []string{api.Bad, api.Kind, api.Who, api.Deny, "x", "a.x", "dialed", "dialed, over", "host", "end of a client", "end of a client, over", "end of a host", "end of a host, over", "tick", "tick, over", "wrong tick", "reload", "wrong reload"} {
 		if answers[answer] < 50 {
 			t.Errorf("%q was tried only %d times", answer, answers[answer])
 		}

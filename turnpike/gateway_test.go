@@ -356,33 +356,3 @@ func TestDialed(t *testing.T) {
 		wantNoClient(t, g, conn)
 	}
 }
-
-func TestClientAndDialedAreHeard(t *testing.T) {
-	g := gatewayAt(t, good, 0)
-	accepted(t, g, 1)
-	accepted(t, g, 2)
-	first, second := g.find(1), g.find(2)
-	wantHeard := func(what string) {
-		t.Helper()
-		if first.silent != 0 || second.silent != 9 {
-			t.Errorf("P7, P8: behind %s: silent for %d and %d minutes", what, first.silent, second.silent)
-		}
-		first.silent = 9
-	}
-	first.silent, second.silent = 9, 9
-	wantClient(t, g, 1, "")
-	wantHeard("nothing of a head")
-	wantClient(t, g, 1, headTo("x:1", annSays), dial(1, "x", 1))
-	wantHeard("a head")
-	wantClient(t, g, 1, "a")
-	wantHeard("bytes that wait")
-	wantDialed(t, g, 1, true, toClient(1, api.Go), toHost(1, "a"))
-	wantHeard("the host's answer")
-	wantClient(t, g, 1, "b", toHost(1, "b"))
-	wantHeard("bytes that go through")
-	wantNotDialed(t, g, 1)
-	wantNoClient(t, g, 3)
-	if first.silent != 9 {
-		t.Error("P1: an error was heard")
-	}
-}

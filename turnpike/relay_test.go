@@ -241,39 +241,3 @@ func TestOnlyWhatIsOverMakesRoom(t *testing.T) {
 	}
 	wantFull(t, g)
 }
-
-func TestHostIsHeardAndEndsAreNot(t *testing.T) {
-	g := gatewayAt(t, good, 0)
-	for i := range 3 {
-		joined(t, g, i+1)
-	}
-	wantSilent := func(what string, conn int, want int) {
-		t.Helper()
-		for i := range 3 {
-			c := g.find(i + 1)
-			if c.number == conn && c.silent != want || c.number != conn && c.silent != 9 {
-				t.Errorf("P9, P10: behind %s: connection %d is silent for %d minutes", what, c.number, c.silent)
-			}
-			c.silent = 9
-		}
-	}
-	for i := range 3 {
-		g.find(i + 1).silent = 9
-	}
-	wantHost(t, g, 1, "a", toClient(1, "a"))
-	wantSilent("bytes of a host", 1, 0)
-	wantHost(t, g, 1, "")
-	wantSilent("no bytes of a host", 1, 0)
-	wantEndClient(t, g, 1, shutHost(1))
-	wantSilent("a client's end", 1, 9)
-	wantNoMoreOfClient(t, g, 1)
-	wantSilent("an error", 1, 9)
-	wantHost(t, g, 1, "b", toClient(1, "b"))
-	wantSilent("bytes of a host whose client has ended", 1, 0)
-	wantEndHost(t, g, 2, shutClient(2))
-	wantSilent("a host's end", 2, 9)
-	wantNothingOfHost(t, g, 2)
-	wantSilent("an error", 2, 9)
-	wantClient(t, g, 2, "c", toHost(2, "c"))
-	wantSilent("bytes of a client whose host has ended", 2, 0)
-}

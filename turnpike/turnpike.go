@@ -2,6 +2,7 @@
 package turnpike
 
 import (
+	"slices"
 	"strings"
 
 	"turnpike/api"
@@ -165,7 +166,25 @@ func (g *Gateway) EndHost(conn int) ([]api.Event, api.Errno) {
 }
 
 // Tick lets minutes go by (P11).
-func (g *Gateway) Tick(minutes int) ([]api.Event, api.Errno) { return nil, api.OK }
+func (g *Gateway) Tick(minutes int) ([]api.Event, api.Errno) {
+	if minutes < 1 || minutes >= api.Minutes {
+		return nil, api.ErrAsk
+	}
+	g.minute = (g.minute + minutes) % api.Minutes
+	var events []api.Event
+	// Through a copy, as some are dropped on the way.
+	for _, c := range slices.Clone(g.conns) {
+		events = append(events, g.age(c, minutes)...)
+	}
+	return events, api.OK
+}
 
 // Reload puts other rules in force (P12).
-func (g *Gateway) Reload(text string) (api.Errno, int) { return api.OK, 0 }
+func (g *Gateway) Reload(text string) (api.Errno, int) {
+	policy, errno, line := Compile(text)
+	if errno != api.OK {
+		return errno, line
+	}
+	g.policy = policy
+	return api.OK, 0
+}
